@@ -1,0 +1,1 @@
+"""Kinlook: which states of machines are alike."""
