@@ -60,6 +60,14 @@ def after(m, state, deed):
     return [step[2] for step in m[1] if step[0] == state and step[1] == deed]
 
 
+def ways_of(m):
+    # For whoever asks often: after goes through all steps each time.
+    ways = {}
+    for start, deed, end in m[1]:
+        ways.setdefault((start, deed), []).append(end)
+    return ways
+
+
 def deeds_of(m):
     return sorted(set([step[1] for step in m[1]]))
 

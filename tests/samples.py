@@ -1,6 +1,7 @@
 """Machines and ways of asking that several tests share."""
 
 from itertools import product
+from random import Random
 
 from kinlook import errors
 
@@ -37,6 +38,89 @@ def full_machine(many, deeds):
 def some_steps(count, many=20):
     """So many different steps, all with the deed a, sorted."""
     return sorted(product(range(many), ["a"], range(many)))[:count]
+
+
+def some_machines(count, most_states=4, deeds=("*", "a", "b"), seed=1):
+    """So many machines of few states, the same ones each time."""
+    source = Random(seed)
+    found = []
+    for turn in range(count):
+        many = source.randint(1, most_states)
+        steps = sorted(product(range(many), deeds, range(many)))
+        picked = source.sample(steps, source.randint(0, min(len(steps), 3 * many)))
+        found.append((many, sorted(picked)))
+    return found
+
+
+def some_scrolls(count, most_rows=12, deeds=("*", "a", "b"), seed=2):
+    """So many scrolls of few rows, the same ones each time."""
+    source = Random(seed)
+    found = []
+    for turn in range(count):
+        rows = []
+        for k in range(source.randint(1, most_rows)):
+            word = source.choice(["some", "all", "not", "and", "or"] if k else ["and", "or"])
+            if word in ("some", "all"):
+                rows.append((word, source.choice(deeds), source.randrange(k)))
+            elif word == "not":
+                rows.append((word, source.randrange(k)))
+            else:
+                rows.append((word, tuple(source.randrange(k) for part in range(source.randint(0, 3) if k else 0))))
+        found.append(rows)
+    return found
+
+
+def true_at(m, rows, k, state):
+    """Whether the row numbered k holds at the state, by the words of [15]."""
+    row = rows[k]
+    if row[0] == "not":
+        return not true_at(m, rows, row[1], state)
+    if row[0] == "and":
+        return all(true_at(m, rows, part, state) for part in row[1])
+    if row[0] == "or":
+        return any(true_at(m, rows, part, state) for part in row[1])
+    ends = [end for start, deed, end in m[1] if start == state and deed == row[1]]
+    if row[0] == "some":
+        return any(true_at(m, rows, row[2], end) for end in ends)
+    return all(true_at(m, rows, row[2], end) for end in ends)
+
+
+def true_states(m, rows):
+    """The states at which the last row holds."""
+    return [state for state in range(m[0]) if true_at(m, rows, len(rows) - 1, state)]
+
+
+def deep_of(rows, k):
+    """The depth of the row numbered k, by the words of [16]."""
+    row = rows[k]
+    if row[0] in ("some", "all"):
+        return 1 + deep_of(rows, row[2])
+    if row[0] == "not":
+        return deep_of(rows, row[1])
+    return max([deep_of(rows, part) for part in row[1]] + [0])
+
+
+# Whatever is no scroll, of whatever kind; each of these fails for a reason of its own.
+YES = ("and", ())
+NO_SCROLLS = [
+    None, True, 0, 1, 1.5, "", "and", "yes", b"and", (), (YES,), {}, {0: YES}, object(), list, [],
+    [None], [0], ["and"], [[]], [()], [["and", ()]], [{}], [b"and"], [("and",)], [("or",)], [("and", (), ())],
+    [(None, ())], [(0, ())], [(b"and", ())], [(("and",), ())], [("", ())], [("And", ())], [("and ", ())], [("yes",)],
+    [("no",)], [("both", ())], [("nor", ())], [("and", None)], [("and", 0)], [("and", [])], [("and", {})], [("and", "")],
+    [("and", (0,))], [("or", (0,))], [("and", (-1,))], [("not", 0)], [("some", "a", 0)], [("all", "*", 0)],
+    [YES, ("and", (1,))], [YES, ("or", (0, 1))], [YES, ("and", (0, -1))], [YES, ("and", [0])], [YES, ("and", 0)],
+    [YES, ("and", 0, 0)], [YES, ("and", (True,))], [YES, ("or", (False,))], [YES, ("and", (0.0,))], [YES, ("or", ("0",))],
+    [YES, ("and", (None,))], [YES, ("and", ((0,),))], [YES, ("or", {0})], [YES, ("not",)], [YES, ("not", 1)],
+    [YES, ("not", -1)], [YES, ("not", False)], [YES, ("not", 0.0)], [YES, ("not", "0")], [YES, ("not", (0,))],
+    [YES, ("not", 0, 0)], [YES, ("not", None)], [YES, ("some", "a")], [YES, ("some", "a", 1)], [YES, ("some", "a", -1)],
+    [YES, ("some", "a", False)], [YES, ("some", "a", 0.0)], [YES, ("some", "a", (0,))], [YES, ("some", "a", None)],
+    [YES, ("some", "a", 0, 0)], [YES, ("some", 0)], [YES, ("some", "", 0)], [YES, ("some", "abcdefg", 0)],
+    [YES, ("some", "A", 0)], [YES, ("some", "**", 0)], [YES, ("some", None, 0)], [YES, ("some", ["a"], 0)],
+    [YES, ("some", b"a", 0)], [YES, ("some", 0, 0)], [YES, ("all", "a")], [YES, ("all", "a", 1)],
+    [YES, ("all", "a", True)], [YES, ("all", "a1", 0)], [YES, ("all", 0, "a")], [YES, ["not", 0]], [YES, None],
+    [None, YES], [("not", 1), YES], [YES, ("not", 2), ("not", 0)], [YES, ("not", 10 ** 50)], [YES] * 2001,
+    [YES] * 2000 + [("not", 0)], [YES, ("and", (0,) * 201)], [YES, ("or", (0,) * 201)], [YES, ("and", (0,) * 201), YES],
+]
 
 
 def assert_refused(case, refusal, call, *things):
