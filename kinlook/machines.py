@@ -68,6 +68,13 @@ def ways_of(m):
     return ways
 
 
+def exits_of(m):
+    exits = [[] for state in range(m[0])]
+    for start, deed, end in m[1]:
+        exits[start].append((deed, end))
+    return exits
+
+
 def deeds_of(m):
     return sorted(set([step[1] for step in m[1]]))
 

@@ -1,4 +1,4 @@
-"""Rows of scrolls: what a row draws on, rows numbered anew, rows put behind others."""
+"""Rows of scrolls: what a row draws on, rows numbered anew, and a sheet to put rows down on."""
 
 
 def drawn(row):
@@ -17,20 +17,37 @@ def renumbered(row, numbers):
     return (row[0], tuple([numbers[part] for part in row[1]]))
 
 
-def put(rows, row):
-    rows.append(row)
-    return len(rows) - 1
+# Rows are kept each once, so that scrolls stay short.
+class Sheet:
+    def __init__(self):
+        self.rows = []
+        self.places = {}
 
+    def put(self, row):
+        if row not in self.places:
+            self.places[row] = len(self.rows)
+            self.rows.append(row)
+        return self.places[row]
 
-def pruned(rows, last):
-    # A row draws on rows ahead of it alone, so one walk from the last one up finds all that is read.
-    wanted = {last: True}
-    for k in range(last, -1, -1):
-        if k in wanted:
-            for part in drawn(rows[k]):
-                wanted[part] = True
-    numbers = {}
-    kept = []
-    for k in sorted(wanted):
-        numbers[k] = put(kept, renumbered(rows[k], numbers))
-    return kept
+    def put_over(self, word, deed, joint, parts):
+        different = sorted(set(parts))
+        # One part by itself says what it would say under "and" or "or".
+        inner = different[0] if len(different) == 1 else self.put((joint, tuple(different)))
+        return self.put((word, deed, inner))
+
+    def rows_read(self, last):
+        # A row draws on rows ahead of it alone, so one walk from the last one up finds them all.
+        wanted = {last: True}
+        for k in range(last, -1, -1):
+            if k in wanted:
+                for part in drawn(self.rows[k]):
+                    wanted[part] = True
+        return sorted(wanted)
+
+    def scroll_to(self, last):
+        numbers = {}
+        scroll = []
+        for k in self.rows_read(last):
+            numbers[k] = len(scroll)
+            scroll.append(renumbered(self.rows[k], numbers))
+        return scroll

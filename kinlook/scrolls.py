@@ -3,7 +3,7 @@
 from kinlook.deeds import is_deed
 from kinlook.errors import NoScroll, TooBig
 from kinlook.machines import check_state, is_whole, ways_of
-from kinlook.rows import drawn, pruned, put, renumbered
+from kinlook.rows import Sheet, drawn, renumbered
 
 MOST_ROWS = 2000
 MOST_PARTS = 200
@@ -96,7 +96,7 @@ def without_not(scroll):
     check_scroll(scroll)
     if len(scroll) > MOST_ROWS_TURNED:
         raise TooBig("too many rows to be told without not")
-    rows = []
+    sheet = Sheet()
     # For each row of the scroll: which new row holds where it does, and which one where it doesn't.
     same = []
     turned = []
@@ -105,7 +105,6 @@ def without_not(scroll):
             same.append(turned[row[1]])
             turned.append(same[row[1]])
         else:
-            same.append(put(rows, renumbered(row, same)))
-            turned.append(put(rows, opposite(row, turned)))
-    # The new row of the last one need not stand last, and rows behind it would be what the scroll says.
-    return pruned(rows, same[-1])
+            same.append(sheet.put(renumbered(row, same)))
+            turned.append(sheet.put(opposite(row, turned)))
+    return sheet.scroll_to(same[-1])

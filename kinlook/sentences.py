@@ -1,7 +1,7 @@
 """Sentences as text: scrolls shown and read row by row, and sentences in words."""
 
 from kinlook.errors import NoScroll, NoText, TooBig
-from kinlook.rows import drawn, put
+from kinlook.rows import Sheet, drawn
 from kinlook.scrolls import check_scroll, is_scroll
 from kinlook.texts import read_deed, read_number
 
@@ -90,14 +90,14 @@ def read_sentence(text):
     words = text.split(" ")
     if len(words) > MOST_WORDS:
         raise NoText("the sentence has too many words")
-    rows = []
+    sheet = Sheet()
     # From the right, so that the sentences that a head needs are there ahead of it, the nearest one on top.
     waiting = []
     for head in reversed(heads_of(words)):
-        waiting.append(put(rows, row_of(head, waiting)))
+        waiting.append(sheet.put(row_of(head, waiting)))
     if len(waiting) != 1:
         raise NoText("more than one sentence")
-    return rows
+    return sheet.scroll_to(waiting[0])
 
 
 def words_joined(word, parts):

@@ -100,6 +100,84 @@ def deep_of(rows, k):
     return max([deep_of(rows, part) for part in row[1]] + [0])
 
 
+def truths(m, rows):
+    """For each row the set of the states at which it holds, by the words of [15]; for scrolls that share many rows."""
+    found = []
+    every = set(range(m[0]))
+    for row in rows:
+        if row[0] == "not":
+            found.append(every - found[row[1]])
+        elif row[0] == "and":
+            found.append(every.intersection(*[found[part] for part in row[1]]))
+        elif row[0] == "or":
+            found.append(set().union(*[found[part] for part in row[1]]))
+        else:
+            goes = {start for start, deed, end in m[1] if deed == row[1] and end in found[row[2]]}
+            misses = {start for start, deed, end in m[1] if deed == row[1] and end not in found[row[2]]}
+            found.append(goes if row[0] == "some" else every - misses)
+    return found
+
+
+def ranks_by_words(m, turns):
+    """The ranks in a round, by the words of [21]."""
+    ranks = [0] * m[0]
+    for turn in range(turns):
+        keys = []
+        for state in range(m[0]):
+            pairs = {(deed, ranks[end]) for start, deed, end in m[1] if start == state}
+            keys.append((ranks[state], tuple(sorted(pairs))))
+        order = sorted(set(keys))
+        ranks = [order.index(key) for key in keys]
+    return ranks
+
+
+def matches(m, pairs, p, q, both_ways):
+    """Whether each step of p has a step of q with the same deed that leads to a pair, and, both ways, the other way."""
+    for start, deed, end in m[1]:
+        if start == p and not any((end, to) in pairs for at, by, to in m[1] if at == q and by == deed):
+            return False
+        if both_ways and start == q and not any((to, end) in pairs for at, by, to in m[1] if at == p and by == deed):
+            return False
+    return True
+
+
+def matched_pairs(m, both_ways, turns=None):
+    """The pairs left after so many turns of striking those that don't match, or after all that strike any."""
+    pairs = set(product(range(m[0]), repeat=2))
+    while turns is None or turns > 0:
+        left = {(p, q) for p, q in pairs if matches(m, pairs, p, q, both_ways)}
+        if turns is not None:
+            turns -= 1
+        elif left == pairs:
+            break
+        pairs = left
+    return pairs
+
+
+def put_as_one(one, other):
+    """Two machines as one, as in [8], but of whatever size."""
+    moved = [(start + one[0], deed, end + one[0]) for start, deed, end in other[1]]
+    return (one[0] + other[0], one[1] + moved)
+
+
+def chain(many, deed="a"):
+    """A machine that takes as many rounds as can be: each state goes to the next one, the last one nowhere."""
+    return (many, [(k, deed, k + 1) for k in range(many - 1)])
+
+
+def large_machines():
+    """Machines of 20 states, some of many rounds, some with more than 80 steps."""
+    source = Random(11)
+    found = [chain(20), (20, [(k, "ab"[k % 3 == 0], (k + 1) % 20) for k in range(20)])]
+    found.append((20, sorted([(k, "a", k + 1) for k in range(19)] + [(k, "a", k) for k in range(20)])))
+    found.append((20, sorted({(k, "*a"[k % 2], max(k - j, 0)) for k in range(20) for j in (1, 2)})))
+    found.append((20, sorted({(k, "a", to) for k in range(20) for to in range(k)})))
+    for deeds, count in [("a", 24), ("a", 40), ("a", 80), ("ab", 28), ("*ab", 80), ("*abcdef", 80), ("ab", 300)]:
+        steps = sorted(product(range(20), deeds, range(20)))
+        found.append((20, sorted(source.sample(steps, count))))
+    return found
+
+
 # Whatever is no scroll, of whatever kind; each of these fails for a reason of its own.
 YES = ("and", ())
 NO_SCROLLS = [

@@ -32,6 +32,8 @@ NEVER_WORDS = (
     "type typing typing_extensions enum Enum IntEnum StrEnum Flag IntFlag Generic Protocol ABC ABCMeta namedtuple "
     "NamedTuple TypedDict TYPE_CHECKING abstractmethod"
 ).split()
+WALKED = "zip enumerate reversed range".split()
+WALKERS = "list tuple dict sorted sum any all enumerate zip min max".split()
 NEVER_WITHIN = ("dataclass", "overload", "contextmanager")
 PYTHONS_OWN = dir(__builtins__) if not isinstance(__builtins__, dict) else list(__builtins__)
 
@@ -113,7 +115,7 @@ def faults_of_statement(node, tree):
     return []
 
 
-def faults_of_expression(node, own, places):
+def faults_of_expression(node, own, places, methods, walks):
     if not isinstance(node, EXPRESSIONS):
         return ["L7"]
     if isinstance(node, ast.Constant):
@@ -135,10 +137,36 @@ def faults_of_expression(node, own, places):
     if isinstance(node, ast.Attribute) and (node.attr in NEVER_NAMES or node.attr in ("format", "format_map")):
         return ["L17 " + node.attr]
     if isinstance(node, ast.Call) and isinstance(node.func, ast.Attribute):
-        return [] if node.func.attr in METHODS or node.func.attr in own else ["L25 " + node.func.attr]
+        if node.func.attr in ("items", "keys", "values") and node not in walks:
+            return ["L23 " + node.func.attr]
+        return [] if node.func.attr in METHODS or node.func.attr in methods else ["L25 " + node.func.attr]
     if isinstance(node, ast.Call) and isinstance(node.func, ast.Name) and node.func.id in ("set", "frozenset"):
         return [] if node in places else ["L24"]
+    if isinstance(node, ast.Call) and isinstance(node.func, ast.Name) and node.func.id in WALKED:
+        return [] if node in walks else ["L23 " + node.func.id]
     return []
+
+
+def walk_places(tree):
+    """Where what is walked at once may stand: behind in, or as the first thing of a call that walks it."""
+    found = []
+    for node in ast.walk(tree):
+        if isinstance(node, (ast.For, ast.comprehension)):
+            found.append(node.iter)
+        elif isinstance(node, ast.Call) and isinstance(node.func, ast.Name) and node.func.id in WALKERS:
+            found.extend(node.args[:1])
+        elif isinstance(node, ast.Call) and isinstance(node.func, ast.Attribute) and node.func.attr == "join":
+            found.extend(node.args)
+    return found
+
+
+def methods_in(tree):
+    return [part.name for node in tree.body if isinstance(node, ast.ClassDef) for part in node.body
+            if isinstance(part, ast.FunctionDef)]
+
+
+def values_in(tree):
+    return [node.attr for node in ast.walk(tree) if isinstance(node, ast.Attribute) and isinstance(node.ctx, ast.Store)]
 
 
 def set_places(tree):
@@ -155,8 +183,8 @@ def set_places(tree):
     return found
 
 
-def faults_of(text):
-    """The rules that a file's text breaks, as far as they are seen here."""
+def faults_of(text, methods=()):
+    """The rules that a file's text breaks, as far as they are seen here; methods are those of the package's classes."""
     tree = ast.parse(text)
     own = bound_names(tree)
     faults = faults_of_text(text) + faults_of_top(tree)
@@ -166,11 +194,12 @@ def faults_of(text):
         if name in PYTHONS_OWN or name in NEVER_NAMES:
             faults.append("L15 " + name)
     places = set_places(tree)
+    walks = walk_places(tree)
     for node in ast.walk(tree):
         if isinstance(node, ast.stmt):
             faults.extend(faults_of_statement(node, tree))
         elif isinstance(node, ast.expr):
-            faults.extend(faults_of_expression(node, own, places))
+            faults.extend(faults_of_expression(node, own, places, methods, walks))
     return faults
 
 
@@ -184,10 +213,35 @@ class Language(unittest.TestCase):
             self.assertTrue(path.is_file() and re.fullmatch(r"[a-z0-9_]+\.py", path.name), path)
             self.assertNotIn(path.stem, PYTHONS_OWN + NEVER_WORDS)
 
+    def trees(self):
+        return {path.stem: ast.parse(path.read_text(encoding="utf-8")) for path in self.files()}
+
     def test_each_file_keeps_to_the_rules(self):
+        methods = [name for tree in self.trees().values() for name in methods_in(tree)]
         for path in self.files():
             with self.subTest(path=path.name):
-                self.assertEqual(faults_of(path.read_text(encoding="utf-8")), [])
+                self.assertEqual(faults_of(path.read_text(encoding="utf-8"), methods), [])
+
+    def test_no_name_is_a_method_and_a_value(self):
+        trees = self.trees().values()
+        methods = {name for tree in trees for name in methods_in(tree)}
+        values = {name for tree in trees for name in values_in(tree)}
+        self.assertEqual(methods & values, set())
+        for name in values:
+            self.assertFalse(any(hasattr(thing, name) for thing in ("", 0, [], {}, set(), b"", ())), name)
+
+    def test_names_are_drawn_from_the_file_that_defines_them(self):
+        trees = self.trees()
+        for tree in trees.values():
+            for node in tree.body:
+                if isinstance(node, ast.ImportFrom):
+                    source = trees[node.module.split(".")[-1]]
+                    defined = [name for part in source.body if not isinstance(part, ast.ImportFrom)
+                               for name in top_names(ast.Module(body=[part], type_ignores=[]))]
+                    for alias in node.names:
+                        self.assertIn(alias.name, defined)
+                        used = [part.id for part in ast.walk(tree) if isinstance(part, ast.Name)]
+                        self.assertIn(alias.name, used)
 
     def test_no_two_files_draw_from_one_another(self):
         drawn = {}
@@ -211,6 +265,8 @@ class TheLookItself(unittest.TestCase):
             "def f(x):\n    for k in set(x):\n        pass", "def f(x):\n    assert x", "x = '\u00e4'", "# a type",
             "def f(hash):\n    return 1", "def _f():\n    return 1", "class C:\n    x = 1", "x = '%'",
             "def f(x):\n    with x:\n        pass", "def f(x):\n    return f'{x + 1}'",
+            "def f(x):\n    return x.put(1)", "def f(x):\n    y = range(3)\n    return y",
+            "def f(x):\n    return x.items()", "def f(x):\n    return min(1, range(3))",
             "def f(x):\n    return [a for b in x for a in b]", "def f():\n" + "    pass\n" * 40, "x = 1\n" + "\n" * 400,
         ]
         for text in wrong:
