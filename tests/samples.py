@@ -133,10 +133,13 @@ def ranks_by_words(m, turns):
 
 def matches(m, pairs, p, q, both_ways):
     """Whether each step of p has a step of q with the same deed that leads to a pair, and, both ways, the other way."""
-    for start, deed, end in m[1]:
-        if start == p and not any((end, to) in pairs for at, by, to in m[1] if at == q and by == deed):
+    of_p = [(deed, end) for start, deed, end in m[1] if start == p]
+    of_q = [(deed, end) for start, deed, end in m[1] if start == q]
+    for deed, end in of_p:
+        if not any((end, other) in pairs for by, other in of_q if by == deed):
             return False
-        if both_ways and start == q and not any((to, end) in pairs for at, by, to in m[1] if at == p and by == deed):
+    for deed, end in of_q if both_ways else []:
+        if not any((other, end) in pairs for by, other in of_p if by == deed):
             return False
     return True
 
@@ -152,6 +155,29 @@ def matched_pairs(m, both_ways, turns=None):
             break
         pairs = left
     return pairs
+
+
+def reached_hidden(m, state):
+    """The reach of a state, by the words of [28]: as many hidden steps as there are states are enough."""
+    states = {state}
+    for turn in range(m[0]):
+        states |= {end for start, deed, end in m[1] if deed == "*" and start in states}
+    return states
+
+
+def eased_by_words(m):
+    """The machine eased, by the words of [28], asked step by step."""
+    reach = [reached_hidden(m, state) for state in range(m[0])]
+    steps = {(p, "*", q) for p in range(m[0]) for q in reach[p]}
+    for r, deed, s in m[1]:
+        if deed != "*":
+            steps |= {(p, deed, q) for p in range(m[0]) if r in reach[p] for q in reach[s]}
+    return (m[0], sorted(steps))
+
+
+def begin_alike(one, other, both_ways=True):
+    """Whether the beginnings of two machines match, put together as one, by turns of striking pairs."""
+    return (0, one[0]) in matched_pairs(put_as_one(one, other), both_ways)
 
 
 def put_as_one(one, other):
