@@ -4,6 +4,7 @@ from itertools import product
 from random import Random
 
 from kinlook import errors
+from kinlook.scrolls import depth_of, is_scroll
 
 REFUSALS = [
     errors.NoMachine, errors.TooBig, errors.NoState, errors.NoDeed, errors.NoText,
@@ -180,6 +181,27 @@ def begin_alike(one, other, both_ways=True):
     return (0, one[0]) in matched_pairs(put_as_one(one, other), both_ways)
 
 
+def sets_told(m, depth, with_not):
+    """The sets of states at which some scroll of at most this depth holds, for machines of few states.
+
+    Without "not", the scrolls are those of rows "some", "and" and "or".
+    """
+    every = frozenset(range(m[0]))
+    deeds = {step[1] for step in m[1]}
+    found = {every, frozenset()}
+    for turn in range(depth):
+        for deed, inner in product(deeds, list(found)):
+            found.add(frozenset(start for start, by, end in m[1] if by == deed and end in inner))
+        while True:
+            more = {one | other for one in found for other in found} | {one & other for one in found for other in found}
+            if with_not:
+                more |= {every - one for one in found}
+            if more <= found:
+                break
+            found |= more
+    return found
+
+
 def put_as_one(one, other):
     """Two machines as one, as in [8], but of whatever size."""
     moved = [(start + one[0], deed, end + one[0]) for start, deed, end in other[1]]
@@ -234,3 +256,21 @@ def assert_refused(case, refusal, call, *things):
     case.assertIsInstance(caught.exception, ValueError)
     told = [name for name in REFUSALS if isinstance(caught.exception, name)]
     case.assertEqual(told, [refusal])
+
+
+def assert_table(case, m, told, pair, both_ways):
+    """What is told is a table, or a one-way table, that has the pair, sorted, each pair once."""
+    case.assertIs(type(told), list)
+    case.assertIn(pair, told)
+    case.assertEqual(told, sorted(set(told)))
+    case.assertTrue(all(type(other) is tuple and len(other) == 2 for other in told))
+    case.assertTrue(all(matches(m, told, a, b, both_ways) for a, b in told))
+
+
+def assert_parts(case, m, scroll, pair, depth):
+    """The scroll has the depth and at most 800 rows, and holds at the first of the pair and not at the second."""
+    case.assertIs(is_scroll(scroll), True)
+    case.assertLessEqual(len(scroll), 800)
+    case.assertEqual(depth_of(scroll), depth)
+    held = truths(m, scroll)[-1]
+    case.assertEqual([state in held for state in pair], [True, False])

@@ -144,6 +144,27 @@ class Making(DeskCase):
         self.say("show x", shown(beside(*[read("2: 0 show 1, 1 beside 0, 1 hide 1")] * 2, ["hide"])))
         self.say("holds new some show some hide yes", "yes")
 
+    def test_names_that_are_deeds_of_the_machines(self):
+        self.say("machine a 2: 0 a 1, 1 b 0", "ok")
+        self.say("machine b 2: 0 b 1, 1 a 0", "ok")
+        m, other = read("2: 0 a 1, 1 b 0"), read("2: 0 b 1, 1 a 0")
+        self.say("hide new a", "ok")
+        self.say("show new", shown(m))
+        self.say("hide a a b", "ok")
+        self.say("show a", "2: 0 a 1, 1 * 0")
+        self.say("machine a 2: 0 a 1, 1 b 0", "ok")
+        self.say("beside new a b", "ok")
+        self.say("show new", shown(beside(m, other, [])))
+        self.say("beside b a b a", "ok")
+        self.say("show b", shown(beside(m, other, ["a"])))
+
+    def test_names_that_are_too_long_for_deeds(self):
+        self.say("machine abcdefgh 1: 0 a 0", "ok")
+        self.say("hide new abcdefgh", "ok")
+        self.say("beside new abcdefgh abcdefgh", "ok")
+        self.say("rename new abcdefgh", "ok")
+        self.say("show new", "1: 0 a 0")
+
     def test_drop(self):
         self.say("drop one", "ok")
         self.refuse(NoName, "show one")

@@ -7,11 +7,10 @@ from kinlook.easing import eased, kin, reach_of, walk_of
 from kinlook.errors import NoDeed, NoState
 from kinlook.kinds import alike, kinds_of, rounds_of
 from kinlook.partings import parted_at, parting_of
-from kinlook.scrolls import depth_of, is_scroll
 from kinlook.tables import is_table, table_of
 from samples import (
-    assert_refused, eased_by_words, full_machine, large_machines, line_machines, matched_pairs, ranks_by_words,
-    reached_hidden, small_machines, some_machines, truths,
+    assert_parts, assert_refused, eased_by_words, full_machine, large_machines, line_machines, matched_pairs,
+    ranks_by_words, reached_hidden, small_machines, some_machines,
 )
 
 M = (5, [(0, "*", 1), (1, "*", 2), (1, "a", 3), (2, "b", 0), (3, "*", 4), (4, "*", 3)])
@@ -180,11 +179,7 @@ class MoreSteps(unittest.TestCase):
                     self.assertIn((p, q), table_of(large, p, q))
                     self.assertIs(is_table(large, table_of(large, p, q)), True)
                 else:
-                    scroll = parting_of(large, p, q)
-                    self.assertIs(is_scroll(scroll), True)
-                    self.assertLessEqual(len(scroll), 800)
-                    self.assertEqual(depth_of(scroll), parted_at(large, p, q))
-                    self.assertEqual([state in truths(large, scroll)[-1] for state in (p, q)], [True, False])
+                    assert_parts(self, large, parting_of(large, p, q), (p, q), parted_at(large, p, q))
 
 
 class Refused(unittest.TestCase):

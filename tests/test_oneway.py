@@ -6,10 +6,9 @@ from itertools import product
 
 from kinlook.errors import NoState
 from kinlook.oneway import can, is_one_way, lack_of, missed_at, one_way_of
-from kinlook.scrolls import depth_of, is_scroll
 from samples import (
-    assert_refused, chain, eased_by_words, full_machine, large_machines, line_machines, matched_pairs, matches,
-    small_machines, some_machines, truths,
+    assert_parts, assert_refused, assert_table, chain, eased_by_words, full_machine, large_machines, line_machines,
+    matched_pairs, matches, sets_told, small_machines, some_machines,
 )
 
 # 0: a, then b or c; 3: a and b, or a and c.
@@ -22,21 +21,6 @@ def rings():
     steps = [(k, "a", (k + 1) % 9) for k in range(9)] + [(9 + k, "a", 9 + (k + 1) % 10) for k in range(10)]
     steps += [(0, "b", 19)] + [(9 + k, "b", 19) for k in range(10) if k != 5]
     return (20, sorted(steps))
-
-
-def sets_told(m, depth):
-    """The sets of states at which some scroll of rows "some", "and", "or" of at most this depth holds."""
-    deeds = {step[1] for step in m[1]}
-    found = {frozenset(range(m[0])), frozenset()}
-    for turn in range(depth):
-        for deed, inner in product(deeds, list(found)):
-            found.add(frozenset(start for start, by, end in m[1] if by == deed and end in inner))
-        while True:
-            more = {one | other for one in found for other in found} | {one & other for one in found for other in found}
-            if more <= found:
-                break
-            found |= more
-    return found
 
 
 class Can(unittest.TestCase):
@@ -108,11 +92,7 @@ class OneWayOf(unittest.TestCase):
         if not wanted:
             self.assertIsNone(told)
             return
-        self.assertIs(type(told), list)
-        self.assertIn((p, q), told)
-        self.assertEqual(told, sorted(set(told)))
-        self.assertTrue(all(type(pair) is tuple and len(pair) == 2 for pair in told))
-        self.assertTrue(all(matches(m, told, a, b, False) for a, b in told))
+        assert_table(self, m, told, (p, q), False)
         self.assertIs(is_one_way(m, told), True)
 
     def test_small_machines(self):
@@ -135,13 +115,8 @@ class Lack(unittest.TestCase):
         if turn is None:
             self.assertIsNone(scroll)
             return 0
-        self.assertIs(is_scroll(scroll), True)
-        self.assertLessEqual(len(scroll), 800)
+        assert_parts(self, m, scroll, (p, q), turn)
         self.assertLessEqual({row[0] for row in scroll}, {"some", "and"})
-        self.assertEqual(depth_of(scroll), turn)
-        told = truths(m, scroll)[-1]
-        self.assertIn(p, told)
-        self.assertNotIn(q, told)
         return turn
 
     def test_ordinary_ones(self):
@@ -174,7 +149,7 @@ class Lack(unittest.TestCase):
             for p, q in product(range(m[0]), repeat=2):
                 turn = missed_at(m, p, q)
                 if turn is not None:
-                    self.assertFalse(any(p in one and q not in one for one in sets_told(m, turn - 1)))
+                    self.assertFalse(any(p in one and q not in one for one in sets_told(m, turn - 1, False)))
 
     def test_many_more_rounds_than_states(self):
         m = rings()

@@ -6,27 +6,11 @@ from itertools import product
 
 from kinlook.errors import NoState
 from kinlook.partings import parted_at, parting_of
-from kinlook.scrolls import depth_of, held_at, is_scroll
+from kinlook.scrolls import held_at
 from samples import (
-    assert_refused, chain, full_machine, large_machines, line_machines, matched_pairs, ranks_by_words, small_machines,
-    some_machines, truths,
+    assert_parts, assert_refused, chain, full_machine, large_machines, line_machines, matched_pairs, ranks_by_words,
+    sets_told, small_machines, some_machines, truths,
 )
-
-
-def sets_told(m, depth):
-    """The sets of states at which some scroll of at most this depth holds, for machines of few states."""
-    every = frozenset(range(m[0]))
-    deeds = {step[1] for step in m[1]}
-    found = {every, frozenset()}
-    for turn in range(depth):
-        for deed, inner in product(deeds, list(found)):
-            found.add(frozenset(start for start, by, end in m[1] if by == deed and end in inner))
-        while True:
-            more = {every - one for one in found} | {one & other for one in found for other in found}
-            if more <= found:
-                break
-            found |= more
-    return found
 
 
 class PartedAt(unittest.TestCase):
@@ -56,8 +40,8 @@ class PartedAt(unittest.TestCase):
             for p, q in product(range(m[0]), repeat=2):
                 turn = parted_at(m, p, q)
                 if turn is not None:
-                    self.assertFalse(any((p in one) != (q in one) for one in sets_told(m, turn - 1)))
-                    self.assertTrue(any(p in one and q not in one for one in sets_told(m, turn)))
+                    self.assertFalse(any((p in one) != (q in one) for one in sets_told(m, turn - 1, True)))
+                    self.assertTrue(any(p in one and q not in one for one in sets_told(m, turn, True)))
 
     def test_states(self):
         for m in ((1, []), (3, [(0, "a", 1)]), (20, [])):
@@ -75,13 +59,8 @@ class PartingOf(unittest.TestCase):
         if turn is None:
             self.assertIsNone(scroll)
             return 0
-        self.assertIs(is_scroll(scroll), True)
-        self.assertLessEqual(len(scroll), 800)
-        self.assertEqual(depth_of(scroll), turn)
-        told = truths(m, scroll)
-        self.assertIn(p, told[-1])
-        self.assertNotIn(q, told[-1])
-        self.assertEqual(held_at(m, scroll), [sorted(states) for states in told])
+        assert_parts(self, m, scroll, (p, q), turn)
+        self.assertEqual(held_at(m, scroll), [sorted(states) for states in truths(m, scroll)])
         return turn
 
     def test_ordinary_ones(self):

@@ -8,7 +8,8 @@ from kinlook.errors import NoState
 from kinlook.kinds import alike
 from kinlook.tables import is_table, table_of
 from samples import (
-    assert_refused, full_machine, large_machines, line_machines, matched_pairs, matches, small_machines, some_machines,
+    assert_refused, assert_table, full_machine, large_machines, line_machines, matched_pairs, matches, small_machines,
+    some_machines,
 )
 
 # 0 and 3 go round with a and b; 1 and 4 are their other halves, 2 stands still.
@@ -89,12 +90,8 @@ class TableOf(unittest.TestCase):
         if not wanted:
             self.assertIsNone(told)
             return
-        self.assertIs(type(told), list)
-        self.assertIn((p, q), told)
-        self.assertEqual(told, sorted(set(told)))
-        self.assertTrue(all(type(pair) is tuple and len(pair) == 2 for pair in told))
+        assert_table(self, m, told, (p, q), True)
         self.assertIs(is_table(m, told), True)
-        self.assertTrue(all(matches(m, told, a, b, True) for a, b in told))
 
     def test_two_that_are_alike(self):
         self.check(M, 0, 3, True)

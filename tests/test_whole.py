@@ -1,7 +1,11 @@
 """[3] over the whole program, sentence by sentence."""
 
+import os
+import subprocess
+import sys
 import unittest
 from itertools import product
+from pathlib import Path
 
 from kinlook.desk import Desk
 from kinlook.easing import eased, kin
@@ -178,6 +182,35 @@ class ShownAndRead(unittest.TestCase):
             self.assertEqual(desk.say("show b"), shown(m))
             self.assertEqual(desk.say("alike a b"), "yes")
             self.assertEqual(desk.say("why a b"), "none")
+
+
+# What is asked of each of some machines, for test_nothing_hangs_on_chance.
+QUESTIONS = """
+from kinlook import easing, kinds, leasts, oneway, partings, portraits, scrolls, sentences, tables
+from samples import some_machines, some_scrolls
+
+for m in some_machines(12, 6):
+    last = m[0] - 1
+    print(kinds.rounds_of(m), tables.table_of(m, 0, last), partings.parting_of(m, 0, last), leasts.least_of(m))
+    print(easing.eased(m), easing.walk_of(m, 0, "a", last), oneway.lack_of(m, 0, last), oneway.one_way_of(m, last, 0))
+    print(portraits.portrait_of(m, 0, ["f", "b", "*", "a", "abc", "q"], 3))
+for scroll in some_scrolls(20):
+    print(scrolls.without_not(scroll), sentences.read_sentence(sentences.tell(scroll)))
+"""
+
+
+class Chance(unittest.TestCase):
+    """[2]: Python orders the members of a set by chance, anew each time it starts."""
+
+    def test_nothing_hangs_on_chance(self):
+        tests = Path(__file__).resolve().parent
+        told = []
+        for seed in ("1", "2", "3"):
+            settings = dict(os.environ, PYTHONHASHSEED=seed, PYTHONPATH=os.pathsep.join([str(tests.parent), str(tests)]))
+            done = subprocess.run([sys.executable, "-c", QUESTIONS], env=settings, capture_output=True, text=True, check=True)
+            told.append(done.stdout)
+        self.assertEqual(told, told[:1] * 3)
+        self.assertGreater(len(told[0]), 1000)
 
 
 if __name__ == "__main__":
