@@ -90,6 +90,12 @@ def faults_of_top(tree):
             faults.append("L3 " + ast.unparse(node))
     names = top_names(tree)
     faults.extend("L15 " + name for name in set(names) if names.count(name) > 1)
+    taken = [name for node in tree.body if isinstance(node, (ast.ImportFrom, ast.ClassDef))
+             for name in top_names(ast.Module(body=[node], type_ignores=[]))]
+    for node in tree.body:
+        if not isinstance(node, ast.ImportFrom):
+            inner = bound_names(ast.Module(body=list(ast.iter_child_nodes(node)), type_ignores=[]))
+            faults.extend("L15 " + name for name in inner if name in taken)
     return faults
 
 
@@ -265,6 +271,8 @@ class TheLookItself(unittest.TestCase):
             "def f(x):\n    for k in set(x):\n        pass", "def f(x):\n    assert x", "x = '\u00e4'", "# a type",
             "def f(hash):\n    return 1", "def _f():\n    return 1", "class C:\n    x = 1", "x = '%'",
             "def f(x):\n    with x:\n        pass", "def f(x):\n    return f'{x + 1}'",
+            "from kinlook.deeds import HIDDEN\ndef f(HIDDEN):\n    return HIDDEN",
+            "class C:\n    pass\ndef f(x):\n    C = x\n    return x",
             "def f(x):\n    return x.put(1)", "def f(x):\n    y = range(3)\n    return y",
             "def f(x):\n    return x.items()", "def f(x):\n    return min(1, range(3))",
             "def f(x):\n    return [a for b in x for a in b]", "def f():\n" + "    pass\n" * 40, "x = 1\n" + "\n" * 400,
